@@ -1,4 +1,7 @@
-package pvec
+// Package renew changes cells that may be shared, for the layers whose
+// collections last. A change that has an owner may change a cell in place;
+// otherwise the cell remains, and another one is made.
+package renew
 
 import "easement/arena"
 
@@ -13,10 +16,10 @@ func alone(a *arena.Arena, i int, owner uint32) bool {
 	return c.Owner == owner
 }
 
-// fresh is how many cells must be made for a change of these, each of which
+// Fresh is how many cells must be made for a change of these, each of which
 // holds the next: all from the first one on that may not be changed in place,
-// since what a shared cell holds is shared too.
-func fresh(a *arena.Arena, owner uint32, path ...int) int {
+// since what a shared cell holds is shared too. Without an owner that is all.
+func Fresh(a *arena.Arena, owner uint32, path ...int) int {
 	for k, i := range path {
 		if !alone(a, i, owner) {
 			return len(path) - k
@@ -25,25 +28,27 @@ func fresh(a *arena.Arena, owner uint32, path ...int) int {
 	return 0
 }
 
-// begin tells whether there is room for so many cells more; then the references
-// of the vector are those of the change. Without an owner the vector remains,
-// and the change needs references of its own.
-func begin(a *arena.Arena, v Vec, owner uint32, need int) bool {
+// Begin tells whether there is room for so many cells more; then the references
+// to those that are held are those of the change. Without an owner what holds
+// them remains, and the change needs references of its own.
+func Begin(a *arena.Arena, owner uint32, need int, held ...int) bool {
 	if a.Room() < need {
 		return false
 	}
 	if owner == 0 {
-		Keep(a, v)
+		for _, i := range held {
+			a.Keep(i)
+		}
 	}
 	return true
 }
 
-// renew changes a cell, in place if that may be, otherwise as a new cell, which
+// Cell changes a cell, in place if that may be, otherwise as a new cell, which
 // it returns. The caller's reference to the old one becomes that to the new one.
 // The function change is handed the contents, and with them the references to
 // the Kids, and returns what the cell then has. Each cell that a change may need
 // has room already, so that none fails halfway.
-func renew(a *arena.Arena, i int, owner uint32, change func(arena.Cell) arena.Cell) int {
+func Cell(a *arena.Arena, i int, owner uint32, change func(arena.Cell) arena.Cell) int {
 	c, _ := a.Get(i)
 	if alone(a, i, owner) {
 		a.Edit(i, owner, change(c))
